@@ -1,0 +1,1 @@
+"""Gaze: eyes that look at one thing and may be wrong."""
