@@ -37,6 +37,13 @@ UNUSED = set("""
     copyright credits delattr dir eval exec exit gc getattr globals hasattr help id importlib license locals
     methodcaller os quit setattr super vars sys format format_map
 """.split())
+# L26: of these, L26 lets a value of an object bear the ones behind the minus alone.
+VALUES_UNUSED = {name for kind in (str, int, list, dict, set, bytes, tuple) for name in dir(kind)} - set("""
+    count index title find get join lower upper split strip copy add
+""".split())
+WALKED = {"zip", "enumerate", "reversed", "range", "items", "keys", "values"}
+WALKERS = {"list", "tuple", "dict", "sorted", "sum", "any", "all", "enumerate", "zip"}
+CHANGES = set("append clear extend insert pop remove reverse setdefault update".split())
 WORDS = re.compile(
     r"\b(type|typing|typing_extensions|enum|Enum|IntEnum|StrEnum|Flag|IntFlag|Generic|Protocol|ABC|ABCMeta"
     r"|namedtuple|NamedTuple|TypedDict|TYPE_CHECKING|abstractmethod)\b|dataclass|overload|contextmanager"
@@ -180,6 +187,146 @@ class FormTest(unittest.TestCase):
                     beside = sides[number:number + 2]
                     plain = [side for side in beside if isinstance(side, ast.Constant)]
                     self.assertTrue(any(side.value in (None, True, False) for side in plain), f"{path}:{node.lineno}")
+
+    def test_annotations_and_defaults(self):
+        for path, node in nodes(ast.FunctionDef):
+            where = f"{path}:{node.lineno}"
+            self.assertIsNone(node.returns, where)
+            self.assertEqual([arg.arg for arg in node.args.args if arg.annotation], [], where)
+            for default in node.args.defaults:
+                self.assertIsInstance(default, ast.Constant, where)
+
+    def test_numbers_and_lambdas(self):
+        for path, node in nodes(ast.BinOp):
+            if isinstance(node.op, ast.Pow):
+                self.assertIsInstance(node.right, ast.Constant, f"{path}:{node.lineno}")
+                self.assertIn(node.right.value, range(65), f"{path}:{node.lineno}")
+        rows = [(path, node.lineno) for path, node in nodes(ast.Lambda)]
+        self.assertEqual(len(rows), len(set(rows)))
+
+    def test_locals_are_not_called_like_classes_and_imports(self):
+        for path, tree in trees():
+            taken = {node.name for node in ast.walk(tree) if isinstance(node, ast.ClassDef)}
+            for node in ast.walk(tree):
+                if isinstance(node, ast.ImportFrom):
+                    taken |= {name.asname or name.name for name in node.names}
+            for node in ast.walk(tree):
+                if isinstance(node, ast.arg):
+                    self.assertNotIn(node.arg, taken, f"{path}:{node.lineno}")
+                if isinstance(node, ast.Name) and isinstance(node.ctx, ast.Store):
+                    self.assertNotIn(node.id, taken, f"{path}:{node.lineno}")
+
+    def test_sets_are_not_used(self):
+        # L24 lets a set stand here and there; the package does without.
+        for path, node in nodes((ast.Set, ast.Name)):
+            if isinstance(node, ast.Set) or node.id in ("set", "frozenset"):
+                self.fail(f"{path}:{node.lineno}")
+
+
+def called_name(node):
+    """The name by which a call calls, or an empty text."""
+    if not isinstance(node, ast.Call):
+        return ""
+    return getattr(node.func, "id", getattr(node.func, "attr", ""))
+
+
+class WalksTest(unittest.TestCase):
+    def test_what_must_be_walked_on_the_spot(self):
+        for path, tree in trees():
+            walked = []
+            for node in ast.walk(tree):
+                if isinstance(node, (ast.For, ast.comprehension)):
+                    walked.append(node.iter)
+                elif called_name(node) in WALKERS and node.args:
+                    walked.extend(node.args if called_name(node) == "zip" else node.args[:1])
+                elif called_name(node) in ("min", "max", "join") and len(node.args) == 1:
+                    walked.append(node.args[0])
+            for node in ast.walk(tree):
+                if called_name(node) in WALKED:
+                    self.assertIn(node, walked, f"{path}:{node.lineno}")
+
+    def test_what_a_loop_walks_is_not_changed_in_it(self):
+        for path, loop in nodes(ast.For):
+            walked = {ast.unparse(node) for node in ast.walk(loop.iter) if isinstance(node, (ast.Name, ast.Attribute))}
+            for statement in loop.body:
+                for node in ast.walk(statement):
+                    where = f"{path}:{getattr(node, 'lineno', 0)}"
+                    if isinstance(node, ast.Call) and isinstance(node.func, ast.Attribute):
+                        if node.func.attr in CHANGES:
+                            self.assertNotIn(ast.unparse(node.func.value), walked, where)
+                    if isinstance(node, ast.Subscript) and isinstance(node.ctx, ast.Store):
+                        self.assertNotIn(ast.unparse(node.value), walked, where)
+
+
+class ClassesTest(unittest.TestCase):
+    def test_bodies_hold_methods_alone_each_once(self):
+        for path, node in nodes(ast.ClassDef):
+            where = f"{path}:{node.lineno}"
+            for part in node.body:
+                self.assertIsInstance(part, (ast.FunctionDef, ast.Pass), where)
+            methods = [part.name for part in node.body if isinstance(part, ast.FunctionDef)]
+            self.assertEqual(len(methods), len(set(methods)), where)
+            self.assertLessEqual(len(node.bases), 1, where)
+            self.assertEqual(node.keywords, [], where)
+
+    def test_no_name_is_a_method_and_a_value(self):
+        methods = {part.name for path, node in nodes(ast.ClassDef) for part in node.body if hasattr(part, "name")}
+        stored = [(path, node) for path, node in nodes(ast.Attribute) if isinstance(node.ctx, ast.Store)]
+        for path, node in stored:
+            where = f"{path}:{node.lineno}"
+            self.assertNotIn(node.attr, methods, where)
+            self.assertNotIn(node.attr, VALUES_UNUSED, where)
+            self.assertIsInstance(node.value, ast.Name, where)
+        self.assertEqual({name for name in methods if name.startswith("__")} - {"__init__"}, set())
+        free = methods - METHODS - {"add", "discard", "__init__"}
+        self.assertEqual(free & VALUES_UNUSED, set())
+
+    def test_methods_are_called_where_they_stand(self):
+        methods = {part.name for path, node in nodes(ast.ClassDef) for part in node.body if hasattr(part, "name")}
+        called = [node.func for path, node in nodes(ast.Call)]
+        called += [keyword.value for path, keyword in nodes(ast.keyword) if keyword.arg == "key"]
+        places = {(node.lineno, node.col_offset, ast.unparse(node)) for node in called}
+        for path, node in nodes(ast.Attribute):
+            if node.attr in methods | METHODS:
+                self.assertIn((node.lineno, node.col_offset, ast.unparse(node)), places, f"{path}:{node.lineno}")
+
+    def test_init_gives_nothing_back(self):
+        for path, node in nodes(ast.FunctionDef):
+            if node.name == "__init__":
+                given = [part for part in ast.walk(node) if isinstance(part, ast.Return)]
+                self.assertEqual(given, [], f"{path}:{node.lineno}")
+
+    def test_classes_are_not_handed_on(self):
+        names = {node.name for path, node in nodes(ast.ClassDef)}
+        for path, tree in trees():
+            allowed = []
+            for node in ast.walk(tree):
+                if isinstance(node, ast.ClassDef):
+                    allowed.extend(node.bases)
+                elif called_name(node) == "isinstance":
+                    allowed.extend(ast.walk(node.args[1]))
+                elif isinstance(node, ast.Call):
+                    allowed.append(node.func)
+                    if called_name(node) == "__init__":
+                        allowed.append(node.func.value)
+                elif isinstance(node, ast.ExceptHandler):
+                    allowed.extend(ast.walk(node.type))
+            for node in ast.walk(tree):
+                if isinstance(node, ast.Name) and node.id in names:
+                    self.assertIn(node, allowed, f"{path}:{node.lineno}")
+
+
+class RefusalsTest(unittest.TestCase):
+    def test_own_errors_are_raised_on_the_spot(self):
+        own = set(top_names(ast.parse((PACKAGE / "errors.py").read_text("ascii"))))
+        for path, node in nodes(ast.Raise):
+            self.assertIn(called_name(node.exc), own, f"{path}:{node.lineno}")
+
+    def test_only_own_errors_are_taken(self):
+        # L19 lets some of Python's own be taken here and there; the package takes KeyError at the most.
+        own = set(top_names(ast.parse((PACKAGE / "errors.py").read_text("ascii"))))
+        for path, node in nodes(ast.ExceptHandler):
+            self.assertIn(getattr(node.type, "id", ""), own | {"KeyError"}, f"{path}:{node.lineno}")
 
 
 if __name__ == "__main__":
