@@ -125,8 +125,8 @@ class GaugedTest(unittest.TestCase):
         self.assertEqual(eye.stretches([0, 1, 2, 3]), [(-10, -10), (-10, -9), (-9, -8), (-8, -8)])
 
     def test_widened_by_the_slack(self):
-        eye = gauged(1, (3, 2), 1)
-        self.assertEqual(eye.stretches([2, 2, 2, None, 0, 10]), [(8, 14), (10, 12), (8, 14), None, (None, 16), (16, None)])
+        told = gauged(1, (3, 2), 1).stretches([2, 2, 2, None, 0, 10])
+        self.assertEqual(told, [(8, 14), (10, 12), (8, 14), None, (None, 16), (16, None)])
 
     def test_raws_off_the_gauge_are_refused(self):
         for error in [0, 1, 5, 20, GREAT]:
