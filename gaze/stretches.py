@@ -25,6 +25,15 @@ def meet(one, other):
     return (lo, hi)
 
 
+def common(some):
+    whole = (None, None)
+    for one in some:
+        whole = meet(whole, one)
+        if whole is None:
+            return None
+    return whole
+
+
 def widened(one, by):
     lo = None if one[0] is None else one[0] - by
     hi = None if one[1] is None else one[1] + by

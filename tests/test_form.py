@@ -216,11 +216,17 @@ class FormTest(unittest.TestCase):
                 if isinstance(node, ast.Name) and isinstance(node.ctx, ast.Store):
                     self.assertNotIn(node.id, taken, f"{path}:{node.lineno}")
 
-    def test_sets_are_not_used(self):
-        # L24 lets a set stand here and there; the package does without.
-        for path, node in nodes((ast.Set, ast.Name)):
-            if isinstance(node, ast.Set) or node.id in ("set", "frozenset"):
-                self.fail(f"{path}:{node.lineno}")
+    def test_sets_are_not_kept(self):
+        # L24 lets a set stand beside "in" and the like, too; the package does without.
+        for path, tree in trees():
+            allowed = []
+            for node in ast.walk(tree):
+                if called_name(node) in ("sorted", "len") and called_name(node.args[0]) == "set":
+                    self.assertEqual(node.keywords, [], f"{path}:{node.lineno}")
+                    allowed.append(node.args[0].func)
+            for node in ast.walk(tree):
+                if isinstance(node, ast.Set) or getattr(node, "id", "") in ("set", "frozenset"):
+                    self.assertIn(node, allowed, f"{path}:{node.lineno}")
 
 
 def called_name(node):
