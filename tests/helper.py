@@ -193,3 +193,21 @@ def some_claim(draws, board, parts=3, ends=3):
         turn = draws.number(0, board.turns - (2 if kind == "step" else 1))
         claim.append((kind, turn, some_stretch(draws, -ends, ends)))
     return claim
+
+
+def gathered_by_hand(numbers, low, high):
+    """Numbers from low to high as the gathered list of stretches; low stands for all below it, high for all above."""
+    stretches = []
+    for number in sorted(numbers):
+        if stretches and stretches[-1][1] == number - 1:
+            stretches[-1] = (stretches[-1][0], number)
+        else:
+            stretches.append((number, number))
+    return [(None if lo == low else lo, None if hi == high else hi) for lo, hi in stretches]
+
+
+def board_of(board, *words):
+    """The board, on which the words (eye, turn, lo, hi) are told."""
+    for eye, turn, lo, hi in words:
+        board.tell(eye, turn, lo, hi)
+    return board

@@ -1,4 +1,4 @@
-"""Points 21 to 23: rises, marks that clash, courses that all marks hold, and the tube; and what point 2 says of them."""
+"""Points 21 to 23: rises, marks that clash, courses that all marks hold, the tube; and what point 2 says of them."""
 
 import itertools
 import unittest

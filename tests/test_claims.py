@@ -185,7 +185,8 @@ class NoClaimTest(unittest.TestCase):
         board = Board(2, 4, 2, 1, 1)
         for part in NO_PARTS:
             for impossible in [
-                [("at", 1, (1, 1)), ("at", 1, (2, 2))], [("step", 0, (8, 9))], [("step", 0, (1, 1)), ("step", 0, (2, 2))],
+                [("at", 1, (1, 1)), ("at", 1, (2, 2))], [("step", 0, (8, 9))],
+                [("step", 0, (1, 1)), ("step", 0, (2, 2))],
             ]:
                 self.assert_refused(board, impossible + [part])
                 self.assert_refused(board, [part] + impossible)

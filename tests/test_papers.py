@@ -6,17 +6,11 @@ from gaze.boards import Board
 from gaze.errors import NoClaim
 from gaze.papers import ask
 from tests.helper import (
-    GREAT, GREATEST, Draws, fitting, is_fit, is_met, paces_by_hand, refutes, some_board, some_claim, wanted_by_hand,
+    GREAT, GREATEST, Draws, board_of, fitting, is_fit, is_met, paces_by_hand, refutes, some_board, some_claim,
+    wanted_by_hand,
 )
 
 ALL = (None, None)
-
-
-def board_of(eyes, turns, up, down, most, *words):
-    board = Board(eyes, turns, up, down, most)
-    for eye, turn, lo, hi in words:
-        board.tell(eye, turn, lo, hi)
-    return board
 
 
 class AnswersTest(unittest.TestCase):
@@ -65,7 +59,7 @@ class FormsTest(AnswersTest):
         self.assert_may(board, [("at", 0, (0, 0)), ("step", 0, (1, 1)), ("step", 1, (1, 1)), ("at", 2, (2, 2))])
 
     def test_clash_of_an_eye_and_what_is_wanted(self):
-        board = board_of(2, 2, 1, 1, 0, (1, 0, 0, 0))
+        board = board_of(Board(2, 2, 1, 1, 0), (1, 0, 0, 0))
         claim = [("at", 1, (2, None))]
         self.assertEqual(ask(board, claim), ("never", ("clash", (1, 0), (None, 1), ("full",), None)))
         claim = [("at", 1, (None, -2))]
@@ -73,17 +67,17 @@ class FormsTest(AnswersTest):
         self.assert_may(board.allowing(1), claim)
 
     def test_clash_of_an_eye_with_itself(self):
-        board = board_of(2, 2, 1, 1, 0, (1, 0, 0, 0), (1, 1, 5, 5))
+        board = board_of(Board(2, 2, 1, 1, 0), (1, 0, 0, 0), (1, 1, 5, 5))
         self.assertEqual(ask(board, []), ("never", ("clash", (1, 0), (1, 1), ("full",), None)))
         self.assert_may(board.allowing(1), [])
 
     def test_clash_of_two_eyes(self):
-        board = board_of(2, 1, 0, 0, 0, (0, 0, 5, 5), (1, 0, 1, 1))
+        board = board_of(Board(2, 1, 0, 0, 0), (0, 0, 5, 5), (1, 0, 1, 1))
         self.assertEqual(ask(board, []), ("never", ("clash", (1, 0), (0, 0), ("full",), ("full",))))
         self.assert_may(board.allowing(1), [])
 
     def test_clash_behind_clash(self):
-        board = board_of(3, 1, 0, 0, 1, (0, 0, 1, 1), (1, 0, 2, 2), (2, 0, 3, 3))
+        board = board_of(Board(3, 1, 0, 0, 1), (0, 0, 1, 1), (1, 0, 2, 2), (2, 0, 3, 3))
         paper = self.assert_never(board, [])
         self.assertEqual(paper[0], "clash")
         self.assertEqual(paper[3][0], "clash")
@@ -92,7 +86,7 @@ class FormsTest(AnswersTest):
 
     def test_claims_that_rule_out_what_the_words_leave(self):
         # Either eye may be the one that lies: the thing is at 1 or at 7, and nowhere between.
-        board = board_of(2, 1, 0, 0, 1, (0, 0, 1, 1), (1, 0, 7, 7))
+        board = board_of(Board(2, 1, 0, 0, 1), (0, 0, 1, 1), (1, 0, 7, 7))
         for number in range(-1, 10):
             claim = [("at", 0, (number, number))]
             if number in (1, 7):
@@ -107,7 +101,7 @@ class FormsTest(AnswersTest):
 
 class MostTest(AnswersTest):
     def test_none_may_be_wrong(self):
-        board = board_of(3, 2, 1, 1, 0, (0, 0, 0, 4), (1, 1, 3, 9), (2, 0, 2, 2))
+        board = board_of(Board(3, 2, 1, 1, 0), (0, 0, 0, 4), (1, 1, 3, 9), (2, 0, 2, 2))
         self.assert_may(board, [])
         self.assert_may(board, [("at", 1, (3, 3))])
         self.assert_never(board, [("at", 1, (4, 4))])
@@ -116,7 +110,7 @@ class MostTest(AnswersTest):
 
     def test_all_may_be_wrong(self):
         words = [(eye, turn, eye, eye) for eye in range(3) for turn in range(2)]
-        board = board_of(3, 2, 0, 0, 3, *words)
+        board = board_of(Board(3, 2, 0, 0, 3), *words)
         self.assert_may(board, [])
         self.assert_may(board, [("at", 1, (GREAT, None))])
         self.assert_never(board, [("step", 0, (1, None))])
@@ -125,7 +119,7 @@ class MostTest(AnswersTest):
     def test_as_many_as_needed_and_one_fewer(self):
         words = [(eye, 0, eye, eye) for eye in range(7)]
         for most in range(8):
-            board = board_of(7, 1, 0, 0, most, *words)
+            board = board_of(Board(7, 1, 0, 0, most), *words)
             if most < 6:
                 self.assert_never(board, [])
             else:
@@ -139,13 +133,13 @@ class MostTest(AnswersTest):
     def test_eyes_that_quarrel_with_themselves(self):
         words = [(eye, turn, turn, turn) for eye in range(4) for turn in range(2)]
         for most in range(4):
-            self.assert_never(board_of(4, 2, 0, 0, most, *words), [])
-        self.assert_may(board_of(4, 2, 0, 0, 4, *words), [])
+            self.assert_never(board_of(Board(4, 2, 0, 0, most), *words), [])
+        self.assert_may(board_of(Board(4, 2, 0, 0, 4), *words), [])
 
     def test_the_greatest_board(self):
         words = [(eye, turn, 10 * eye + turn, 10 * eye + turn) for eye in range(7) for turn in range(12)]
         for most in range(8):
-            board = board_of(7, 12, 1, 1, most, *words)
+            board = board_of(Board(7, 12, 1, 1, most), *words)
             for claim in [[], [("at", 11, (31, 31))], [("at", 5, (None, -1))]]:
                 fewest = 7 if claim and claim[0][1] == 5 else 6
                 if most < fewest:
@@ -154,7 +148,7 @@ class MostTest(AnswersTest):
                     self.assert_may(board, claim)
 
     def test_very_great_numbers(self):
-        board = board_of(2, 3, GREATEST, 0, 0, (0, 0, -GREATEST, -GREATEST))
+        board = board_of(Board(2, 3, GREATEST, 0, 0), (0, 0, -GREATEST, -GREATEST))
         self.assert_may(board, [("at", 2, (GREATEST, None))])
         self.assert_never(board, [("at", 2, (GREATEST + 1, None))])
         self.assert_never(board, [("at", 2, (None, -GREATEST - 1))])
@@ -162,22 +156,22 @@ class MostTest(AnswersTest):
 
 class ClaimsTest(AnswersTest):
     def test_five_hundred_parts(self):
-        board = board_of(2, 12, 1, 1, 1, (0, 0, 0, 0), (1, 11, 20, 20))
+        board = board_of(Board(2, 12, 1, 1, 1), (0, 0, 0, 0), (1, 11, 20, 20))
         claim = [("at", number % 12, (-number, None)) for number in range(500)]
         self.assert_may(board, claim)
         self.assert_never(board, claim[:-1] + [("at", 3, (10, 10))])
 
     def test_one_turn(self):
-        board = board_of(1, 1, 5, 5, 0, (0, 0, 1, 2))
+        board = board_of(Board(1, 1, 5, 5, 0), (0, 0, 1, 2))
         self.assert_may(board, [("at", 0, (2, 5))])
         self.assert_never(board, [("at", 0, (3, 5))])
 
     def test_an_eye_without_words_is_no_help(self):
-        board = board_of(3, 1, 0, 0, 1, (0, 0, 1, 1), (1, 0, 1, 1))
+        board = board_of(Board(3, 1, 0, 0, 1), (0, 0, 1, 1), (1, 0, 1, 1))
         self.assert_never(board, [("at", 0, (2, 2))])
 
     def test_no_claim(self):
-        board = board_of(2, 3, 2, 1, 1, (0, 0, 1, 1))
+        board = board_of(Board(2, 3, 2, 1, 1), (0, 0, 1, 1))
         for part in [
             ("at", -1, ALL), ("at", 3, ALL), ("step", 2, ALL), ("step", -1, ALL), ("step", 3, ALL), ("", 0, ALL),
             ("on", 0, (1, 1)), ("Step", 0, (1, 1)), ("at", GREAT, ALL),
@@ -189,7 +183,7 @@ class ClaimsTest(AnswersTest):
                         ask(board, claim)
 
     def test_no_claim_where_no_course_fits(self):
-        board = board_of(2, 1, 0, 0, 0, (0, 0, 1, 1), (1, 0, 2, 2))
+        board = board_of(Board(2, 1, 0, 0, 0), (0, 0, 1, 1), (1, 0, 2, 2))
         self.assert_never(board, [])
         with self.assertRaises(NoClaim):
             ask(board, [("step", 0, ALL)])
@@ -231,7 +225,7 @@ class RefutesTest(unittest.TestCase):
     """The walk itself must find what is wrong with a paper, else the other tests say little."""
 
     def test_wrong_papers(self):
-        board = board_of(3, 2, 1, 1, 1, (0, 0, 1, 1), (1, 0, 2, 2), (2, 0, 3, 3))
+        board = board_of(Board(3, 2, 1, 1, 1), (0, 0, 1, 1), (1, 0, 2, 2), (2, 0, 3, 3))
         paper = ask(board, [])[1]
         self.assertTrue(refutes(board, [], paper))
         self.assertFalse(refutes(board.allowing(2), [], paper))
@@ -253,7 +247,8 @@ class RefutesTest(unittest.TestCase):
 class AskersOwnTest(unittest.TestCase):
     def test_what_is_handed_in_stays(self):
         words = [(0, 0, 1, 1), (1, 0, 2, 2)]
-        board, claim = board_of(2, 2, 1, 1, 1, *words), [("at", 0, (1, 1)), ("step", 0, (None, 0)), ("at", 0, ALL)]
+        board = board_of(Board(2, 2, 1, 1, 1), *words)
+        claim = [("at", 0, (1, 1)), ("step", 0, (None, 0)), ("at", 0, ALL)]
         for most in range(3):
             ask(board.allowing(most), claim)
         ask(board, claim)
@@ -262,12 +257,12 @@ class AskersOwnTest(unittest.TestCase):
         self.assertEqual(board.most, 1)
 
     def test_told_courses_are_the_askers(self):
-        board = board_of(1, 2, 0, 0, 0, (0, 0, 4, 4))
+        board = board_of(Board(1, 2, 0, 0, 0), (0, 0, 4, 4))
         ask(board, [])[1].clear()
         self.assertEqual(ask(board, []), ("may", [4, 4]))
 
     def test_what_was_told_stays(self):
-        board, claim = board_of(2, 1, 0, 0, 0, (0, 0, 4, 4)), []
+        board, claim = board_of(Board(2, 1, 0, 0, 0), (0, 0, 4, 4)), []
         may = ask(board, claim)
         claim.append(("at", 0, (9, 9)))
         never = ask(board, claim)
