@@ -2,6 +2,7 @@
 
 from gaze.claims import meets
 from gaze.errors import NoEvent, TooMany
+from gaze.wording import shown_ends
 
 LAST_TURN = 11
 SIZE_AT_MOST = 100
@@ -53,6 +54,9 @@ class Spanned(Event):
     def all_at(self, one):
         return parts_at(self.first, self.last, one)
 
+    def spelled(self, word, more):
+        return " ".join([word, str(self.first), str(self.last)] + more)
+
 
 class Stayed(Spanned):
     def __init__(self, first, last, stretch):
@@ -64,6 +68,9 @@ class Stayed(Spanned):
 
     def breaks(self):
         return failures(self.all_at(self.stretch))
+
+    def text(self):
+        return self.spelled("stay", shown_ends(self.stretch))
 
 
 class Over(Spanned):
@@ -77,6 +84,9 @@ class Over(Spanned):
     def breaks(self):
         return [self.all_at((None, self.sill - 1))]
 
+    def text(self):
+        return self.spelled("over", [str(self.sill)])
+
 
 class Under(Spanned):
     def __init__(self, first, last, sill):
@@ -88,6 +98,9 @@ class Under(Spanned):
 
     def breaks(self):
         return [self.all_at((self.sill + 1, None))]
+
+    def text(self):
+        return self.spelled("under", [str(self.sill)])
 
 
 class Rose(Spanned):
@@ -113,6 +126,9 @@ class Rose(Spanned):
             for turn in range(self.first, self.last + 1)
         ]
 
+    def text(self):
+        return self.spelled("rose", [str(self.low), str(self.high)])
+
 
 class Paced(Spanned):
     def __init__(self, first, last, stretch):
@@ -127,6 +143,9 @@ class Paced(Spanned):
 
     def breaks(self):
         return failures(self.all_steps())
+
+    def text(self):
+        return self.spelled("pace", shown_ends(self.stretch))
 
 
 class Turned(Event):
@@ -147,6 +166,9 @@ class Turned(Event):
 
     def breaks(self):
         return failures(self.both_steps())
+
+    def text(self):
+        return "turn " + str(self.turn)
 
 
 class Paired(Event):
@@ -173,6 +195,9 @@ class Both(Paired):
         other = self.other.sizes()
         return (one[0] * other[0], one[1] + other[1])
 
+    def text(self):
+        return " ".join(["both", self.one.text(), self.other.text()])
+
 
 class Either(Paired):
     def ways(self):
@@ -185,6 +210,9 @@ class Either(Paired):
         one = self.one.sizes()
         other = self.other.sizes()
         return (one[0] + other[0], one[1] * other[1])
+
+    def text(self):
+        return " ".join(["either", self.one.text(), self.other.text()])
 
 
 class Nay(Event):
@@ -199,6 +227,13 @@ class Nay(Event):
 
     def breaks(self):
         return self.one.ways()
+
+    def sizes(self):
+        one = self.one.sizes()
+        return (one[1], one[0])
+
+    def text(self):
+        return "not " + self.one.text()
 
 
 class Lying(Event):
@@ -216,3 +251,7 @@ class Lying(Event):
 
     def breaks(self):
         return [self.all_right()]
+
+    def text(self):
+        # No rule tells of an eye, so this is none.
+        return "lying"

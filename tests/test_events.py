@@ -1,4 +1,4 @@
-"""Points 29 and 30: the sorts of events, their ways and breaks, and how far they speak; and what point 2 says of them."""
+"""Points 29 and 30: sorts of events, their ways and breaks, how far they speak; and what point 2 says of them."""
 
 import itertools
 import unittest
