@@ -229,6 +229,60 @@ class FormTest(unittest.TestCase):
                     self.assertIn(node, allowed, f"{path}:{node.lineno}")
 
 
+class TextsTest(unittest.TestCase):
+    def test_f_strings_hold_plain_names(self):
+        for path, node in nodes(ast.FormattedValue):
+            where = f"{path}:{node.lineno}"
+            self.assertIsInstance(node.value, ast.Name, where)
+            self.assertIn(node.conversion, (-1, ord("r")), where)
+            self.assertIsNone(node.format_spec, where)
+
+    def test_escapes(self):
+        for path in files():
+            for found in re.finditer(r"\\(.)", path.read_text("ascii"), re.DOTALL):
+                self.assertIn(found.group(1), "nt\\\"'", path)
+
+    def test_keys(self):
+        plain = {"len", "int", "str", "abs", "sum", "min", "max", "tuple"}
+        own = {node.name for path, node in nodes(ast.FunctionDef)}
+        for path, node in nodes(ast.keyword):
+            if node.arg == "key" and not isinstance(node.value, ast.Lambda):
+                self.assertIn(ast.unparse(node.value).split(".")[-1], plain | own, f"{path}:{node.value.lineno}")
+            if node.arg in ("reverse", "strict"):
+                self.assertIsInstance(node.value, ast.Constant, f"{path}:{node.value.lineno}")
+
+
+class TopValuesTest(unittest.TestCase):
+    def tops(self):
+        for path, tree in trees():
+            for node in tree.body:
+                if isinstance(node, ast.Assign):
+                    yield path, tree, node
+
+    def test_plain_values(self):
+        kinds = (ast.Constant, ast.List, ast.Tuple, ast.Dict, ast.expr_context, ast.UnaryOp, ast.USub)
+        for path, tree, node in self.tops():
+            for part in ast.walk(node.value):
+                self.assertIsInstance(part, kinds, f"{path}:{node.lineno}")
+            for part in list(ast.walk(node.value))[1:]:
+                self.assertNotIsInstance(part, (ast.List, ast.Dict), f"{path}:{node.lineno}")
+
+    def test_lists_and_dicts_are_only_read(self):
+        # L15 lets them be walked or copied, too; the package asks them by an index and by "in" alone.
+        for path, tree, top in self.tops():
+            if not isinstance(top.value, (ast.List, ast.Dict)):
+                continue
+            read = []
+            for node in ast.walk(tree):
+                if isinstance(node, ast.Subscript) and isinstance(node.ctx, ast.Load):
+                    read.append(node.value)
+                elif isinstance(node, ast.Compare) and isinstance(node.ops[0], (ast.In, ast.NotIn)):
+                    read.extend(node.comparators)
+            for node in ast.walk(tree):
+                if isinstance(node, ast.Name) and node.id == top.targets[0].id and node != top.targets[0]:
+                    self.assertIn(node, read, f"{path}:{node.lineno}")
+
+
 def called_name(node):
     """The name by which a call calls, or an empty text."""
     if not isinstance(node, ast.Call):
